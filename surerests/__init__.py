@@ -1,0 +1,1 @@
+"""Surerests: what comes to rest, whatever the rules are."""
