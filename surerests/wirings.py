@@ -64,10 +64,7 @@ class Wiring:
 
     def states(self):
         """A new list of all states in order."""
-        found = [()]
-        for name in self._parts:
-            found = [state + (level,) for state in found for level in range(self._tops[name] + 1)]
-        return found
+        return level_choices([self._tops[name] for name in self._parts])
 
     def is_state(self, value):
         """True if the value, which may be any value, is a state, and False otherwise."""
@@ -114,6 +111,14 @@ class Wiring:
     def _other_arrows(self, source, target):
         # Compared, not looked up: the two may be any values, also such as cannot be keys.
         return [arrow for arrow in self._arrows if arrow[:2] != (source, target)]
+
+
+def level_choices(tops):
+    """A new list of all tuples with a level for each of these tops, in order."""
+    choices = [()]
+    for top in tops:
+        choices = [choice + (level,) for choice in choices for level in range(top + 1)]
+    return choices
 
 
 def is_whole(value, least, most):

@@ -1,5 +1,10 @@
-"""What several test files need: sample wirings, values of all kinds, a way to catch errors."""
+"""What several test files need: sample wirings and rules, values of all kinds, a way to catch errors."""
 
+import functools
+import itertools
+import math
+
+from surerests.rules import Rules
 from surerests.wirings import Wiring
 
 SAMPLE_TEXTS = [
@@ -44,6 +49,98 @@ ODD_VALUES = [
 
 def samples():
     return [Wiring.read(text) for text in SAMPLE_TEXTS]
+
+
+def wired(text):
+    """The wiring with this text, in which the arrows may stand in any order."""
+    heads, *tails = text.split("; ")
+    words = [tail.split(" ") for tail in tails]
+    tails = [" ".join(row) for row in sorted(words, key=lambda row: (row[0], row[2]))]
+    return Wiring.read("; ".join([heads, *tails]))
+
+
+def full_wiring(sign, top=1):
+    """Six parts with an arrow from each to each, or four of them if the top is 3."""
+    parts = "abcdef" if top == 1 else "abcd"
+    return Wiring({name: top for name in parts}, [(one, other, sign) for one in parts for other in parts])
+
+
+def wirings_of(tops, step=1):
+    """Every wiring with these tops, or each step-th of them."""
+    parts = sorted(tops)
+    pairs = list(itertools.product(parts, repeat=2))
+    for signs in itertools.islice(itertools.product(" +-?", repeat=len(pairs)), 0, None, step):
+        yield Wiring(tops, [(*pair, sign) for pair, sign in zip(pairs, signs) if sign != " "])
+
+
+def small_wirings():
+    """Wirings of one and of two parts, and some of three parts."""
+    yield from wirings_of({"a": 1})
+    yield from wirings_of({"a": 3})
+    yield from wirings_of({"a": 1, "b": 1})
+    yield from wirings_of({"b1": 2, "b": 1}, 7)
+    yield from wirings_of({"c": 1, "ab": 1, "b": 1}, 1009)
+
+
+def rings_of(wiring):
+    """All rings, by point 7: found among all rows of different parts."""
+    found = []
+    for length in range(1, len(wiring.parts) + 1):
+        for row in itertools.permutations(wiring.parts, length):
+            pairs = zip(row, row[1:] + row[:1])
+            if row[0] == min(row) and all(wiring.sign(*pair) is not None for pair in pairs):
+                found.append(row)
+    return found
+
+
+def parities_of(wiring, ring):
+    """The parities, 0 or 1, that the number of arrows with - around the ring can have, by point 7."""
+    signs = [wiring.sign(*pair) for pair in zip(ring, ring[1:] + ring[:1])]
+    ways = itertools.product(*["+-" if sign == "?" else sign for sign in signs])
+    return {way.count("-") % 2 for way in ways}
+
+
+def choices_of(wiring, name):
+    return list(itertools.product(*[range(wiring.top(source) + 1) for source in wiring.sources(name)]))
+
+
+def fits(signs, table):
+    """True if the rule in the table fits arrows with these signs, by point 6: over all pairs of choices."""
+    for low, high in itertools.permutations(table, 2):
+        places = [place for place, (one, other) in enumerate(zip(low, high)) if one != other]
+        if len(places) == 1 and low[places[0]] < high[places[0]]:
+            sign = signs[places[0]]
+            if sign == "+" and table[low] > table[high] or sign == "-" and table[low] < table[high]:
+                return False
+    return True
+
+
+@functools.cache
+def _fitting_tables(choices, signs, top):
+    rows = itertools.product(range(top + 1), repeat=len(choices))
+    tables = [dict(zip(choices, row)) for row in rows]
+    return [table for table in tables if fits(signs, table)]
+
+
+def tables_of(wiring, name):
+    """All fitting rules of a part."""
+    signs = tuple(wiring.sign(source, name) for source in wiring.sources(name))
+    return _fitting_tables(tuple(choices_of(wiring, name)), signs, wiring.top(name))
+
+
+def rules_of(wiring, most=400):
+    """All rules for a wiring, or about so many of them if there are more."""
+    tables = [tables_of(wiring, name) for name in wiring.parts]
+    count = math.prod(len(each) for each in tables)
+    # An odd step, so that the last part does not always have the same few tables.
+    for chosen in itertools.islice(itertools.product(*tables), 0, None, count // most | 1):
+        yield Rules(wiring, dict(zip(wiring.parts, chosen)))
+
+
+def next_of(wiring, tables, state):
+    """The next state, by point 6."""
+    levels = dict(zip(wiring.parts, state))
+    return tuple(tables[name][tuple(levels[source] for source in wiring.sources(name))] for name in wiring.parts)
 
 
 def caught(kind, call):
