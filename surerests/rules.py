@@ -13,7 +13,7 @@ class Rules:
             raise UnlikeParts(names)
         self._wiring = wiring
         self._tables = {name: _checked_table(wiring, name, tables[name]) for name in names}
-        self._places = {name: _source_places(wiring, name) for name in names}
+        self._places = {name: source_places(wiring, name) for name in names}
 
     @property
     def wiring(self):
@@ -61,7 +61,7 @@ def copying(wiring, arrows, shift):
         raise BadNumber(shift)
     tables = {}
     for name in wiring.parts:
-        choices = _source_choices(wiring, name)
+        choices = source_choices(wiring, name)
         if name in copied:
             tables[name] = _copying_table(wiring, choices, copied[name], shift)
         else:
@@ -69,19 +69,19 @@ def copying(wiring, arrows, shift):
     return Rules(wiring, tables)
 
 
-def _source_choices(wiring, name):
+def source_choices(wiring, name):
     """All choices of levels of the sources of a part, in order."""
     return level_choices([wiring.top(source) for source in wiring.sources(name)])
 
 
-def _source_places(wiring, name):
+def source_places(wiring, name):
     """The places of the sources of a part among all parts."""
     return [wiring.parts.index(source) for source in wiring.sources(name)]
 
 
 def _checked_table(wiring, name, table):
     """A copy of the table of a part; raises BadTable if it is not a rule of this part."""
-    choices = _source_choices(wiring, name)
+    choices = source_choices(wiring, name)
     if len(table) != len(choices) or not all([choice in table for choice in choices]):
         raise BadTable(name)
     if not all([is_whole(table[choice], 0, wiring.top(name)) for choice in choices]):

@@ -153,20 +153,21 @@ def _checked_signs(tops, arrows):
     """The sign of each arrow by its source and target; raises BadArrow."""
     signs = {}
     for arrow in arrows:
-        if not _is_arrow(tops, arrow) or arrow[:2] in signs:
+        if not is_arrow(tops, arrow) or arrow[:2] in signs:
             raise BadArrow(arrow)
         signs[arrow[:2]] = arrow[2]
     return signs
 
 
-def _is_arrow(tops, value):
+def is_arrow(parts, value):
+    """True if the value, which may be any value, is an arrow of these parts."""
     if not isinstance(value, tuple) or len(value) != 3:
         return False
     # Only strings are looked up: other values may be such as cannot be keys.
     if not all([isinstance(item, str) for item in value]):
         return False
     source, target, sign = value
-    return source in tops and target in tops and sign in SIGNS
+    return source in parts and target in parts and sign in SIGNS
 
 
 def _read_tops(text):

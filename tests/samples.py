@@ -3,6 +3,7 @@
 import functools
 import itertools
 import math
+import random
 
 from surerests.rules import Rules
 from surerests.wirings import Wiring
@@ -82,6 +83,13 @@ def small_wirings():
     yield from wirings_of({"c": 1, "ab": 1, "b": 1}, 1009)
 
 
+def ringless(tops, step=1):
+    """Every wiring with these tops in which arrows lead only from a part to later ones of the dict."""
+    pairs = list(itertools.combinations(tops, 2))
+    for signs in itertools.islice(itertools.product(" +-?", repeat=len(pairs)), 0, None, step):
+        yield Wiring(tops, [(*pair, sign) for pair, sign in zip(pairs, signs) if sign != " "])
+
+
 def rings_of(wiring):
     """All rings, by point 7: found among all rows of different parts."""
     found = []
@@ -98,6 +106,32 @@ def parities_of(wiring, ring):
     signs = [wiring.sign(*pair) for pair in zip(ring, ring[1:] + ring[:1])]
     ways = itertools.product(*["+-" if sign == "?" else sign for sign in signs])
     return {way.count("-") % 2 for way in ways}
+
+
+def rings_with(wiring, parity):
+    """The rings, in order, that can have this parity."""
+    return [ring for ring in rings_of(wiring) if parity in parities_of(wiring, ring)]
+
+
+def ring_wiring(parts, signs, tops):
+    """One ring around these parts, which may begin with any of them."""
+    return Wiring(dict(zip(parts, tops)), list(zip(parts, parts[1:] + parts[:1], signs)))
+
+
+def long_rings():
+    """Rings of one to six parts with many signs and tops, alone."""
+    for parts, step in (("a", 1), ("ba", 1), ("bca", 1), ("dacb", 1), ("caebd", 7), ("fadbec", 13)):
+        length = len(parts)
+        for tops in ((1,) * 6, (2,) * 6, (3,) * 6, (3, 1, 2, 1, 2, 1), (1, 3, 1, 3, 1, 1)):
+            if math.prod(top + 1 for top in tops[:length]) <= 256:
+                for signs in itertools.islice(itertools.product("+-?", repeat=length), 0, None, step):
+                    yield ring_wiring(list(parts), signs, tops)
+
+
+def all_sets(wiring):
+    """All sets of parts, in order."""
+    parts = wiring.parts
+    return [names for length in range(len(parts) + 1) for names in itertools.combinations(parts, length)]
 
 
 def choices_of(wiring, name):
@@ -135,6 +169,35 @@ def rules_of(wiring, most=400):
     # An odd step, so that the last part does not always have the same few tables.
     for chosen in itertools.islice(itertools.product(*tables), 0, None, count // most | 1):
         yield Rules(wiring, dict(zip(wiring.parts, chosen)))
+
+
+def drawn_rules(wiring, seed):
+    """Some rules for any wiring: weighed sums of the levels, with any start for each choice of those behind a ?."""
+    draw = random.Random(f"{seed} {wiring}")
+    tables = {}
+    for name in wiring.parts:
+        top = wiring.top(name)
+        signs = [wiring.sign(source, name) for source in wiring.sources(name)]
+        weights = [{"+": 1, "-": -1, "?": 0}[sign] * draw.randint(0, 3) for sign in signs]
+        table = {}
+        starts = {}
+        for choice in choices_of(wiring, name):
+            free = tuple(level for sign, level in zip(signs, choice) if sign == "?")
+            start = starts.setdefault(free, draw.randint(-2, 2 * top + 2))
+            number = start + sum(weight * level for weight, level in zip(weights, choice))
+            table[choice] = min(max(number // 2, 0), top)
+        tables[name] = table
+    return Rules(wiring, tables)
+
+
+def tables_told(rules):
+    return {name: rules.table(name) for name in rules.wiring.parts}
+
+
+def rests_of(rules):
+    """The states of rest, by point 6."""
+    tables = tables_told(rules)
+    return [state for state in rules.wiring.states() if next_of(rules.wiring, tables, state) == state]
 
 
 def next_of(wiring, tables, state):

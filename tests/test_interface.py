@@ -1,18 +1,18 @@
-"""The interface of the modules that there are: names, arguments, kinds of values, examples."""
+"""The interface of the modules that there are: names, arguments, kinds of values."""
 
-import doctest
 import importlib
 import inspect
-import pathlib
 import unittest
 
-from surerests.errors import BadArrow, BadTable, HasOdd, HasRing, NoEven
+from surerests.existence import at_least_one, climb, fall, find_rest, no_rest
+from surerests.numbers import apart, least_meeting, many_rests, meets, most_rests
 from surerests.rings import all_rings, can_be_even, can_be_odd, check_ring, depth, even_ring, knots, odd_ring, order_of
+from surerests.rounds import check_circling, circling, course, run, settles
 from surerests.rules import Rules, all_rests, copying, lowest_rules
 from surerests.sides import check_sides, is_under, sides_of, turned
 from surerests.uniques import at_most_one, check_two, ring_between, two_rests
 from surerests.wirings import Wiring
-from tests.samples import caught, samples, wired
+from tests.samples import samples, wired
 
 FUNCTIONS = {
     "naming": {"valid_name": "text"},
@@ -28,6 +28,17 @@ FUNCTIONS = {
     "uniques": {
         "at_most_one": "wiring", "two_rests": "wiring", "check_two": "wiring rules one other",
         "ring_between": "rules one other",
+    },
+    "existence": {
+        "at_least_one": "wiring", "no_rest": "wiring", "climb": "rules", "fall": "rules", "find_rest": "rules",
+    },
+    "numbers": {
+        "meets": "wiring names", "least_meeting": "wiring", "apart": "wiring", "many_rests": "wiring",
+        "most_rests": "wiring",
+    },
+    "rounds": {
+        "run": "rules state rounds", "course": "rules state", "settles": "wiring", "circling": "wiring",
+        "check_circling": "wiring rules state",
     },
 }
 
@@ -161,73 +172,37 @@ class TestKinds(unittest.TestCase):
             "ring_between": (ring_between(rules, one, other), tuple),
         })
 
-
-class TestExamples(unittest.TestCase):
-    def setUp(self):
-        self.wiring = Wiring({"b": 2, "a": 1}, [("b", "b", "?"), ("a", "b", "+"), ("b", "a", "-")])
-
-    def test_first(self):
-        wiring = self.wiring
-        told = [str(wiring), wiring.parts, wiring.sources("b"), wiring.sign("b", "a"), wiring.sign("a", "a")]
-        self.assertEqual(told, ["a:1 b:2; a + b; b - a; b ? b", ("a", "b"), ("a", "b"), "-", None])
-
-    def test_second(self):
-        wiring = self.wiring
-        told = [len(wiring.states()), wiring.is_state((1, 2)), wiring.is_state((2, 1)), str(wiring.only(["b"]))]
-        self.assertEqual(told, [6, True, False, "b:2; b ? b"])
-
-    def test_third(self):
-        told = [str(self.wiring.with_arrow("a", "b", "-").without_arrow("b", "b")), str(self.wiring.mirrored())]
-        self.assertEqual(told, ["a:1 b:2; a - b; b - a", "a:1 b:2; a - b; b + a; b ? b"])
-
-    def test_fourth(self):
-        error = caught(BadArrow, lambda: Wiring({"a": 1}, [("a", "b", "+")]))
-        self.assertEqual(error.value, ("a", "b", "+"))
-
-    def test_rings(self):
-        wiring = Wiring.read("a:1 b:2 c:1; a + b; b - a; b + c; c ? c")
-        told = [all_rings(wiring), can_be_even(wiring, ("a", "b")), can_be_odd(wiring, ("c",)),
-                even_ring(wiring), odd_ring(wiring)]
-        self.assertEqual(told, [[("c",), ("a", "b")], False, True, ("c",), ("c",)])
-        told = [knots(wiring), depth(Wiring.read("a:1 b:1 c:1; a + b; b - c")), order_of(Wiring.read("x:1 y:1; y + x"))]
-        self.assertEqual(told, [[("a", "b"), ("c",)], 3, ("y", "x")])
-        error = caught(HasRing, lambda: order_of(Wiring.read("a:1; a + a")))
-        self.assertEqual(error.value, ("a",))
-
-    def test_rules(self):
-        wiring = Wiring.read("a:1 b:2; a + b; b - a")
-        rules = Rules(wiring, {"a": {(0,): 1, (1,): 1, (2,): 0}, "b": {(0,): 0, (1,): 1}})
-        told = [rules.next((0, 2)), rules.rests((1, 1)), all_rests(rules), all_rests(lowest_rules(wiring))]
-        self.assertEqual(told, [(0, 0), True, [(1, 1)], [(0, 0)]])
-        told = [all_rests(copying(wiring, wiring.arrows, 1)), copying(wiring, [("b", "a", "-")], 1).table("a")]
-        self.assertEqual(told, [[], {(0,): 1, (1,): 0, (2,): 0}])
-        error = caught(BadTable, lambda: Rules(Wiring.read("a:1; a + a"), {"a": {(0,): 1, (1,): 0}}))
-        self.assertEqual(error.name, "a")
-
-    def test_sides(self):
-        wiring = Wiring.read("a:1 b:2 c:1; a - b; b - a; b ? c; c + c")
-        told = [sides_of(wiring), check_sides(wiring, {"a": 1, "b": 0, "c": 1}),
-                turned(wiring, sides_of(wiring), (0, 2, 1))]
-        self.assertEqual(told, [{"a": 0, "b": 1, "c": 0}, True, (0, 0, 1)])
-        told = [is_under(wiring, sides_of(wiring), (0, 2, 0), (1, 1, 0)), check_sides(wiring, {"a": 0, "b": 0, "c": 0})]
-        self.assertEqual(told, [True, False])
-        error = caught(HasOdd, lambda: sides_of(Wiring.read("a:1 b:1; a + b; b - a")))
-        self.assertEqual(error.value, ("a", "b"))
-
-    def test_uniques(self):
-        wiring = Wiring.read("a:1 b:1 c:1; a - b; b - a; b + c")
-        rules, one, other = two_rests(wiring)
-        told = [at_most_one(wiring), check_two(wiring, rules, one, other), check_two(wiring, rules, one, one),
-                ring_between(rules, one, other)]
-        self.assertEqual(told, [False, True, False, ("a", "b")])
-        self.assertIs(at_most_one(Wiring.read("a:3 b:1; a + b; b - a")), True)
-        caught(NoEven, lambda: two_rests(Wiring.read("a:1; a - a")))
-
-    def test_examples_of_the_readme(self):
-        readme = pathlib.Path(__file__).parent.parent / "README.md"
-        told = doctest.testfile(str(readme), module_relative=False, encoding="utf-8")
-        self.assertEqual(told.failed, 0)
-        self.assertGreater(told.attempted, 5)
+    def test_kinds_of_results_of_existence_numbers_and_rounds(self):
+        wiring = wired("a:1 b:1; a + b; b + a")
+        rules, state = circling(wiring)
+        self.check_kinds({
+            "at_least_one": (at_least_one(wiring), bool),
+            "no_rest": (no_rest(wiring.with_arrow("a", "a", "-")), Rules),
+            "climb": (climb(rules), list),
+            "climb's state": (climb(rules)[0], tuple),
+            "fall": (fall(rules), list),
+            "fall's state": (fall(rules)[0], tuple),
+            "find_rest": (find_rest(rules), tuple),
+            "meets": (meets(wiring, ()), bool),
+            "least_meeting": (least_meeting(wiring), tuple),
+            "apart": (apart(wiring), list),
+            "ring": (apart(wiring)[0], tuple),
+            "many_rests": (many_rests(wiring), Rules),
+            "most_rests": (most_rests(wiring), tuple),
+            "a number": (most_rests(wiring)[0], int),
+            "another number": (most_rests(wiring)[1], int),
+            "run": (run(rules, state, 2), list),
+            "run's state": (run(rules, state, 2)[2], tuple),
+            "course": (course(rules, state), tuple),
+            "ahead": (course(rules, state)[0], int),
+            "length": (course(rules, state)[1], int),
+            "settles": (settles(wiring), bool),
+            "circling": (circling(wiring), tuple),
+            "rules": (rules, Rules),
+            "state": (state, tuple),
+            "check_circling": (check_circling(wiring, rules, state), bool),
+            "check_circling of no state": (check_circling(wiring, rules, None), bool),
+        })
 
 
 if __name__ == "__main__":

@@ -5,7 +5,7 @@ import unittest
 from surerests.errors import BadState, UnknownName
 from surerests.rules import Rules, all_rests, lowest_rules
 from surerests.wirings import Wiring
-from tests.samples import ODD_VALUES, caught, next_of, rules_of, small_wirings, wired
+from tests.samples import ODD_VALUES, caught, next_of, rules_of, small_wirings, tables_told, wired
 
 
 def sample():
@@ -15,10 +15,6 @@ def sample():
         "b": {(0,): 0, (1,): 2},
         "c": {(0, 0): 0, (0, 1): 1, (1, 0): 0, (1, 1): 0, (2, 0): 1, (2, 1): 1},
     })
-
-
-def tables_told(rules):
-    return {name: rules.table(name) for name in rules.wiring.parts}
 
 
 class TestTables(unittest.TestCase):

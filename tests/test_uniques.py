@@ -7,18 +7,12 @@ from surerests.errors import BadState, NoEven
 from surerests.rules import Rules, all_rests, lowest_rules
 from surerests.uniques import at_most_one, check_two, ring_between, two_rests
 from surerests.wirings import Wiring
-from tests.samples import ODD_VALUES, caught, full_wiring, next_of, parities_of, rings_of, rules_of, samples
-from tests.samples import small_wirings, tables_of, wired, wirings_of
+from tests.samples import ODD_VALUES, caught, full_wiring, parities_of, rests_of, rings_of, rings_with, rules_of
+from tests.samples import samples, small_wirings, tables_of, wired, wirings_of
 
 
 def has_even(wiring):
-    return any(0 in parities_of(wiring, ring) for ring in rings_of(wiring))
-
-
-def rests_of(rules):
-    """The states of rest, by point 6."""
-    tables = {name: rules.table(name) for name in rules.wiring.parts}
-    return [state for state in rules.wiring.states() if next_of(rules.wiring, tables, state) == state]
+    return len(rings_with(wiring, 0)) > 0
 
 
 def can_both_rest(wiring, one, other):
