@@ -206,6 +206,65 @@ def next_of(wiring, tables, state):
     return tuple(tables[name][tuple(levels[source] for source in wiring.sources(name))] for name in wiring.parts)
 
 
+def all_facts(wiring):
+    """All facts of a wiring."""
+    return [
+        (state, name, level)
+        for state in wiring.states() for name in wiring.parts for level in range(wiring.top(name) + 1)
+    ]
+
+
+def drawn_facts(wiring, seed, many):
+    """So many facts of any wiring: some by the same rules, which do not clash, or any for an odd seed."""
+    draw = random.Random(f"{seed} {many} {wiring}")
+    rules = drawn_rules(wiring, seed)
+    facts = []
+    for _ in range(many):
+        state = draw.choice(wiring.states())
+        place = draw.randrange(len(state))
+        level = rules.next(state)[place] if seed % 2 == 0 else draw.randint(0, wiring.top(wiring.parts[place]))
+        facts.append((state, wiring.parts[place], level))
+    return facts
+
+
+def is_below(wiring, name, one, other):
+    """True if the levels of the sources of the part in one state are below those in the other, by point 49."""
+    for source, low, high in zip(wiring.parts, one, other):
+        sign = wiring.sign(source, name)
+        if sign == "+" and low > high or sign == "-" and low < high or sign == "?" and low != high:
+            return False
+    return True
+
+
+def clash_of(wiring, facts):
+    """The first tuple of two facts that clash, by points 49 and 50."""
+    for one in facts:
+        for other in facts:
+            if one[1] == other[1] and one[2] > other[2] and is_below(wiring, one[1], one[0], other[0]):
+                return one, other
+    return None
+
+
+def arrows_to(wiring, name):
+    """All arrows to a part, by point 54."""
+    rows = itertools.product(" +-?", repeat=len(wiring.parts))
+    return [
+        tuple((source, name, sign) for source, sign in zip(wiring.parts, signs) if sign != " ")
+        for signs in rows
+    ]
+
+
+def choice_of(wiring, name, state):
+    """The levels of the sources of a part in a state."""
+    return tuple(state[wiring.parts.index(source)] for source in wiring.sources(name))
+
+
+def fitting_tables(wiring, name, facts):
+    """All fitting rules of a part that tell all facts about it."""
+    told = [(choice_of(wiring, name, state), level) for state, part, level in facts if part == name]
+    return [table for table in tables_of(wiring, name) if all(table[choice] == level for choice, level in told)]
+
+
 def caught(kind, call):
     """The error that the call raises, which has to be just of this class."""
     try:

@@ -4,14 +4,18 @@ import doctest
 import pathlib
 import unittest
 
+from surerests.books import Book
 from surerests.errors import BadArrow, BadTable, HasOdd, HasRing, NoEven
 from surerests.existence import at_least_one, climb, fall, find_rest, no_rest
+from surerests.explaining import explains, is_simpler, least_explanations, needed_sources, possible_sources
+from surerests.facts import clash, fits_facts, greatest_level, least_level, least_rules, may_rest, surely_rests
 from surerests.numbers import apart, least_meeting, many_rests, meets, most_rests
 from surerests.rings import all_rings, can_be_even, can_be_odd, depth, even_ring, knots, odd_ring, order_of
 from surerests.rounds import check_circling, circling, course, run, settles
 from surerests.rules import Rules, all_rests, copying, lowest_rules
 from surerests.sides import check_sides, is_under, sides_of, turned
 from surerests.uniques import at_most_one, check_two, ring_between, two_rests
+from surerests.verdicts import Verdict, check_verdict, judge
 from surerests.wirings import Wiring
 from tests.samples import caught
 
@@ -101,6 +105,43 @@ class TestExamples(unittest.TestCase):
         self.assertEqual(told, [True, False, True])
         told = circling(wiring)
         self.assertIs(check_circling(wiring, told[0], told[1]), True)
+
+    def test_facts(self):
+        wiring = Wiring.read("a:1 b:2; a + b; b + a; b - b")
+        facts = [((0, 1), "b", 1), ((1, 2), "b", 1), ((1, 2), "a", 0)]
+        told = [clash(wiring, facts), clash(wiring, [((0, 0), "b", 0), ((0, 1), "b", 2)])]
+        self.assertEqual(told, [None, (((0, 1), "b", 2), ((0, 0), "b", 0))])
+        told = [least_level(wiring, facts, "b", (1, 1)), greatest_level(wiring, facts, "b", (1, 1)),
+                greatest_level(wiring, facts, "a", (0, 1))]
+        self.assertEqual(told, [1, 2, 0])
+        told = [surely_rests(wiring, facts, (0, 1)), may_rest(wiring, facts, (0, 0)),
+                fits_facts(least_rules(wiring, facts), facts)]
+        self.assertEqual(told, [True, False, True])
+
+    def test_explaining(self):
+        wiring = Wiring.read("a:1 b:1")
+        facts = [((0, 0), "b", 0), ((1, 1), "b", 1), ((0, 1), "b", 0)]
+        told = [least_explanations(wiring, facts, "b"), needed_sources(wiring, facts, "b"),
+                least_explanations(wiring, facts, "a")]
+        self.assertEqual(told, [[(("a", "b", "+"),)], ("a",), [()]])
+        told = [explains(wiring, facts, "b", [("a", "b", "-"), ("b", "b", "+")]),
+                possible_sources(wiring, facts[:2], "b")]
+        self.assertEqual(told, [False, ("a", "b")])
+        self.assertIs(is_simpler([("a", "b", "+")], [("a", "b", "?"), ("b", "b", "-")]), True)
+
+    def test_verdicts(self):
+        texts = ["a:1 b:1; a ? b", "a:1; a - a", "a:2; a + a", "a:1; a ? a"]
+        told = [[judge(Wiring.read(text)).kind for text in texts], judge(Wiring.read("a:1 b:1; b + a")).paper]
+        self.assertEqual(told, [["one", "at most", "at least", "any"], ("b", "a")])
+        self.assertIs(check_verdict(Wiring.read("a:1 b:1; b + a"), Verdict("one", ("a", "b"))), False)
+
+    def test_books(self):
+        book = Book(Wiring.read("a:1 b:1; a + b"))
+        book.put_fact((0, 0), "b", 1)
+        book.put_arrow("b", "a", "+")
+        kind = book.tried([("drop arrow", "a", "b"), ("drop fact", 0)]).kind
+        told = [kind, book.verdict().kind, book.bounds("b", (1, 0)), len(book), (0, 0) in book, (1, 1) in book]
+        self.assertEqual(told, ["one", "at least", (1, 1), 2, False, True])
 
     def test_examples_of_the_readme(self):
         readme = pathlib.Path(__file__).parent.parent / "README.md"

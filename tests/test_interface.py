@@ -4,13 +4,18 @@ import importlib
 import inspect
 import unittest
 
+from surerests.books import Book
 from surerests.existence import at_least_one, climb, fall, find_rest, no_rest
+from surerests.explaining import explains, is_simpler, least_explanations, needed_sources, possible_sources
+from surerests.facts import clash, fits_facts, greatest_level, greatest_rules, least_level, least_rules
+from surerests.facts import may_rest, surely_rests
 from surerests.numbers import apart, least_meeting, many_rests, meets, most_rests
 from surerests.rings import all_rings, can_be_even, can_be_odd, check_ring, depth, even_ring, knots, odd_ring, order_of
 from surerests.rounds import check_circling, circling, course, run, settles
 from surerests.rules import Rules, all_rests, copying, lowest_rules
 from surerests.sides import check_sides, is_under, sides_of, turned
 from surerests.uniques import at_most_one, check_two, ring_between, two_rests
+from surerests.verdicts import Verdict, check_verdict, judge
 from surerests.wirings import Wiring
 from tests.samples import samples, wired
 
@@ -40,6 +45,16 @@ FUNCTIONS = {
         "run": "rules state rounds", "course": "rules state", "settles": "wiring", "circling": "wiring",
         "check_circling": "wiring rules state",
     },
+    "facts": {
+        "clash": "wiring facts", "fits_facts": "rules facts", "surely_rests": "wiring facts state",
+        "may_rest": "wiring facts state", "least_level": "wiring facts name state",
+        "greatest_level": "wiring facts name state", "least_rules": "wiring facts", "greatest_rules": "wiring facts",
+    },
+    "explaining": {
+        "explains": "wiring facts name arrows", "is_simpler": "one other", "least_explanations": "wiring facts name",
+        "needed_sources": "wiring facts name", "possible_sources": "wiring facts name",
+    },
+    "verdicts": {"judge": "wiring", "check_verdict": "wiring verdict"},
 }
 
 CLASSES = {
@@ -53,9 +68,21 @@ CLASSES = {
         "__init__": "self wiring tables", "table": "self name", "next": "self state", "rests": "self state",
         "__eq__": "self other",
     },
+    ("verdicts", "Verdict"): {"__init__": "self kind paper"},
+    ("books", "Book"): {
+        "__init__": "self wiring", "verdict": "self", "tried": "self changes", "bounds": "self name state",
+        "put_arrow": "self source target sign", "drop_arrow": "self source target",
+        "put_fact": "self state name level", "drop_fact": "self number", "undo": "self", "history": "self",
+        "__len__": "self", "__contains__": "self state",
+    },
 }
 
-PROPERTIES = {("wirings", "Wiring"): ["parts", "arrows"], ("rules", "Rules"): ["wiring"]}
+PROPERTIES = {
+    ("wirings", "Wiring"): ["parts", "arrows"],
+    ("rules", "Rules"): ["wiring"],
+    ("verdicts", "Verdict"): ["kind", "paper"],
+    ("books", "Book"): ["wiring", "facts"],
+}
 
 
 def module(name):
@@ -89,7 +116,9 @@ class TestNames(unittest.TestCase):
 
     def test_properties_cannot_be_assigned(self):
         wiring = Wiring({"a": 1}, [])
-        held = {"Wiring": wiring, "Rules": lowest_rules(wiring)}
+        held = {
+            "Wiring": wiring, "Rules": lowest_rules(wiring), "Verdict": Verdict("one", ("a",)), "Book": Book(wiring),
+        }
         for (place, name), properties in PROPERTIES.items():
             for each in properties:
                 self.assertIsInstance(vars(vars(module(place))[name])[each], property)
@@ -202,6 +231,53 @@ class TestKinds(unittest.TestCase):
             "state": (state, tuple),
             "check_circling": (check_circling(wiring, rules, state), bool),
             "check_circling of no state": (check_circling(wiring, rules, None), bool),
+        })
+
+    def test_kinds_of_results_of_facts_and_explaining(self):
+        wiring = wired("a:1 b:1; a + b; b + a")
+        facts = [((0, 0), "a", 0), ((0, 1), "b", 1)]
+        clashing = clash(wiring, [((1, 0), "b", 0), ((0, 0), "b", 1)])
+        self.check_kinds({
+            "clash": (clashing, tuple),
+            "fact": (clashing[0], tuple),
+            "no clash": (clash(wiring, facts), type(None)),
+            "fits_facts": (fits_facts(least_rules(wiring, facts), facts), bool),
+            "surely_rests": (surely_rests(wiring, facts, (0, 0)), bool),
+            "may_rest": (may_rest(wiring, facts, (0, 0)), bool),
+            "least_level": (least_level(wiring, facts, "a", (0, 0)), int),
+            "greatest_level": (greatest_level(wiring, facts, "a", (0, 0)), int),
+            "least_rules": (least_rules(wiring, facts), Rules),
+            "greatest_rules": (greatest_rules(wiring, facts), Rules),
+            "explains": (explains(wiring, facts, "a", []), bool),
+            "is_simpler": (is_simpler([], []), bool),
+            "least_explanations": (least_explanations(wiring, facts, "a"), list),
+            "arrows": (least_explanations(wiring, facts, "a")[0], tuple),
+            "arrow": (least_explanations(wiring, [((0, 0), "a", 0), ((1, 0), "a", 1)], "a")[0][0], tuple),
+            "needed_sources": (needed_sources(wiring, facts, "a"), tuple),
+            "possible_sources": (possible_sources(wiring, facts, "a"), tuple),
+        })
+
+    def test_kinds_of_results_of_verdicts_and_books(self):
+        wiring = wired("a:1 b:1; a + b; b ? a")
+        book = Book(wiring)
+        book.put_fact((0, 0), "a", 0)
+        self.check_kinds({
+            "judge": (judge(wiring), Verdict),
+            "kind": (judge(wiring).kind, str),
+            "paper of any": (judge(wiring).paper, tuple),
+            "paper of at most": (judge(wired("a:1; a - a")).paper, Rules),
+            "check_verdict": (check_verdict(wiring, judge(wiring)), bool),
+            "Book.wiring": (book.wiring, Wiring),
+            "facts": (book.facts, tuple),
+            "fact": (book.facts[0], tuple),
+            "verdict": (book.verdict(), Verdict),
+            "tried": (book.tried([]), Verdict),
+            "bounds": (book.bounds("a", (0, 0)), tuple),
+            "bound": (book.bounds("a", (0, 0))[0], int),
+            "history": (book.history(), list),
+            "change": (book.history()[0], tuple),
+            "len": (len(book), int),
+            "in": ((0, 0) in book, bool),
         })
 
 
