@@ -1,7 +1,7 @@
 """Books: a wiring and facts that can be changed, and changed back."""
 
-from surerests.errors import BadFact, BadNumber, NothingToUndo
-from surerests.facts import bounds_behind, can_rest, check_no_clash, is_fact
+from surerests.errors import BadFact, BadNumber, Clash, NothingToUndo
+from surerests.facts import bounds_behind, can_rest, check_no_clash, clash, is_fact
 from surerests.verdicts import judge
 from surerests.wirings import is_whole
 
@@ -36,11 +36,13 @@ class Book:
     def put_arrow(self, source, target, sign):
         """Puts an arrow into the wiring, in the place of the one that stood there."""
         wiring = self._wiring.with_arrow(source, target, sign)
+        check_no_clash(wiring, self._facts)
         self._change(("arrow", source, target, sign), wiring, self._facts)
 
     def drop_arrow(self, source, target):
         """Takes an arrow out of the wiring."""
         wiring = self._wiring.without_arrow(source, target)
+        check_no_clash(wiring, self._facts)
         self._change(("drop arrow", source, target), wiring, self._facts)
 
     def put_fact(self, state, name, level):
@@ -48,12 +50,18 @@ class Book:
         fact = (state, name, level)
         if not is_fact(self._wiring, fact):
             raise BadFact(fact)
-        self._change(("fact", state, name, level), self._wiring, self._facts + (fact,))
+        facts = self._facts + (fact,)
+        least, greatest = self.bounds(name, state)
+        # The other facts do not clash, so the bounds tell whether this one does with any of them.
+        if not least <= level <= greatest:
+            raise Clash(clash(self._wiring, facts))
+        self._change(("fact", state, name, level), self._wiring, facts)
 
     def drop_fact(self, number):
         """Takes away the fact with this number, counted from 0."""
         if not is_whole(number, 0, len(self._facts) - 1):
             raise BadNumber(number)
+        # No two of the facts clash, so no two of fewer facts do.
         self._change(("drop fact", number), self._wiring, self._facts[:number] + self._facts[number + 1:])
 
     def undo(self):
@@ -82,8 +90,7 @@ class Book:
         return self._wiring.is_state(state) and can_rest(self._wiring, self._facts, state)
 
     def _change(self, change, wiring, facts):
-        """Goes on with this wiring and these facts, if no two of them clash."""
-        check_no_clash(wiring, facts)
+        """Goes on with this wiring and these facts."""
         self._changes.append(change)
         self._earlier.append((self._wiring, self._facts))
         self._wiring = wiring

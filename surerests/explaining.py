@@ -60,7 +60,7 @@ def _check_arrows(wiring, name, arrows):
 
 
 def _bits_told(facts, name):
-    """For each two facts that must not clash the bits of which arrows have to have one, each number once."""
+    """For each two facts about the part with different levels the bits of which arrows that explain have one."""
     told = [(state, level) for state, part, level in facts if part == name]
     found = set()
     for state, level in told:
@@ -82,7 +82,7 @@ def _bits_between(state, other):
 
 
 def _failing(count, told):
-    """For each number, whether arrows without all of its bits do not explain: whether it has all bits of a told one."""
+    """For each number whether arrows that lack its bits do not explain: it then has all bits of one of those told."""
     fails = [False for _ in range(1 << count)]
     for bits in told:
         fails[bits] = True
@@ -113,4 +113,4 @@ def _arrows_of(wiring, name, bits):
 
 def _sources_of_each(wiring, facts, name):
     """The sources of each of the least explanations."""
-    return [[source for source, _, _ in arrows] for arrows in least_explanations(wiring, facts, name)]
+    return [[arrow[0] for arrow in arrows] for arrows in least_explanations(wiring, facts, name)]

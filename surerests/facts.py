@@ -1,18 +1,20 @@
 """Facts: levels that parts had behind states, and what they tell of all rules that fit them."""
 
 from surerests.errors import BadFact, BadState, Clash, UnknownName
-from surerests.rules import Rules, source_choices, source_places
+from surerests.rules import Rules, source_choices
 from surerests.wirings import is_whole
 
 
 def clash(wiring, facts):
     """The first two of the facts that clash, the one with the greater level first, or None if no two of them do."""
     check_facts(wiring, facts)
-    greatest = {name: _greatest_levels(wiring, facts, name) for name in sorted({fact[1] for fact in facts})}
+    about = {part: _facts_about(facts, part) for part in wiring.parts}
+    signs = {part: _signs_to(wiring, part) for part in wiring.parts}
     for fact in facts:
         state, name, level = fact
-        if level > greatest[name][_choice(wiring, name, state)]:
-            return (fact, _first_against(wiring, facts, fact))
+        against = [other for other in about[name] if other[2] < level and _is_below(signs[name], state, other[0])]
+        if against:
+            return (fact, against[0])
     return None
 
 
@@ -38,13 +40,13 @@ def greatest_level(wiring, facts, name, state):
 def least_rules(wiring, facts):
     """The rules by which each part always has its least level."""
     check_no_clash(wiring, facts)
-    return Rules(wiring, {name: _least_levels(wiring, facts, name) for name in wiring.parts})
+    return Rules(wiring, {name: _table_of_bounds(wiring, facts, name, 0) for name in wiring.parts})
 
 
 def greatest_rules(wiring, facts):
     """The rules by which each part always has its greatest level."""
     check_no_clash(wiring, facts)
-    return Rules(wiring, {name: _greatest_levels(wiring, facts, name) for name in wiring.parts})
+    return Rules(wiring, {name: _table_of_bounds(wiring, facts, name, 1) for name in wiring.parts})
 
 
 def surely_rests(wiring, facts, state):
@@ -89,9 +91,9 @@ def bounds_behind(wiring, facts, name, state):
     if not wiring.is_state(state):
         raise BadState(state)
     signs = _signs_to(wiring, name)
-    told = [(other, level) for other, part, level in facts if part == name]
-    least = max([level for other, level in told if _is_below(signs, other, state)], default=0)
-    greatest = min([level for other, level in told if _is_below(signs, state, other)], default=wiring.top(name))
+    about = _facts_about(facts, name)
+    least = max([level for other, _, level in about if _is_below(signs, other, state)], default=0)
+    greatest = min([level for other, _, level in about if _is_below(signs, state, other)], default=wiring.top(name))
     return (least, greatest)
 
 
@@ -121,59 +123,20 @@ def _is_below(signs, one, other):
     return True
 
 
-def _first_against(wiring, facts, fact):
-    """The first of the facts with which this one clashes, as the one with the greater level."""
-    state, name, level = fact
-    signs = _signs_to(wiring, name)
-    against = [
-        other for other in facts
-        if other[1] == name and other[2] < level and _is_below(signs, state, other[0])
-    ]
-    return against[0]
+def _facts_about(facts, name):
+    return [fact for fact in facts if fact[1] == name]
 
 
-def _choice(wiring, name, state):
-    """The levels of the sources of a part in a state."""
-    return tuple([state[place] for place in source_places(wiring, name)])
+def _table_of_bounds(wiring, facts, name, place):
+    """The least levels of a part for all choices of levels of its sources, or the greatest ones for the place 1."""
+    about = _facts_about(facts, name)
+    return {
+        choice: bounds_behind(wiring, about, name, _state_with(wiring, name, choice))[place]
+        for choice in source_choices(wiring, name)
+    }
 
 
-def _least_levels(wiring, facts, name):
-    """The least level of a part for each choice: the greatest level that a fact tells for a choice below it, or 0."""
-    return _pushed_up(wiring, name, _levels_told(wiring, facts, name), 1)
-
-
-def _greatest_levels(wiring, facts, name):
-    """The greatest level of a part for each choice: the least level that a fact tells above it, or the top."""
-    # Counted from the top, and with above for below, it is a least level.
-    top = wiring.top(name)
-    told = [(choice, top - level) for choice, level in _levels_told(wiring, facts, name)]
-    gaps = _pushed_up(wiring, name, told, -1)
-    return {choice: top - gaps[choice] for choice in gaps}
-
-
-def _levels_told(wiring, facts, name):
-    """The choices of levels of the sources of a part in the facts about it, with the levels of the part."""
-    places = source_places(wiring, name)
-    return [(tuple([state[place] for place in places]), level) for state, part, level in facts if part == name]
-
-
-def _pushed_up(wiring, name, told, way):
-    """For each choice the greatest number that is told for a choice below it, or above it if way is -1, or else 0."""
-    choices = source_choices(wiring, name)
-    numbers = {choice: 0 for choice in choices}
-    for choice, number in told:
-        numbers[choice] = max(numbers[choice], number)
-    # One source after the other, and in the direction in which it pushes: so each number gets all the way.
-    # Pairs of facts would do as well, but there may be very many of them.
-    for place, step in _steps_up(wiring, name):
-        upwards = choices if step == way else choices[::-1]
-        for choice in upwards:
-            behind = choice[:place] + (choice[place] - step * way,) + choice[place + 1:]
-            numbers[choice] = max(numbers[choice], numbers.get(behind, 0))
-    return numbers
-
-
-def _steps_up(wiring, name):
-    """The places of the sources with the sign + or - and the steps of their levels that lead to choices above."""
-    signs = [wiring.sign(source, name) for source in wiring.sources(name)]
-    return [(place, 1 if sign == "+" else -1) for place, sign in enumerate(signs) if sign != "?"]
+def _state_with(wiring, name, choice):
+    """A state in which the sources of a part have these levels."""
+    levels = dict(zip(wiring.sources(name), choice))
+    return tuple([levels.get(part, 0) for part in wiring.parts])

@@ -13,7 +13,7 @@ class Rules:
             raise UnlikeParts(names)
         self._wiring = wiring
         self._tables = {name: _checked_table(wiring, name, tables[name]) for name in names}
-        self._places = {name: source_places(wiring, name) for name in names}
+        self._places = {name: _source_places(wiring, name) for name in names}
 
     @property
     def wiring(self):
@@ -74,7 +74,7 @@ def source_choices(wiring, name):
     return level_choices([wiring.top(source) for source in wiring.sources(name)])
 
 
-def source_places(wiring, name):
+def _source_places(wiring, name):
     """The places of the sources of a part among all parts."""
     return [wiring.parts.index(source) for source in wiring.sources(name)]
 

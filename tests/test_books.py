@@ -7,7 +7,8 @@ from surerests.errors import BadArrow, BadFact, BadNumber, BadState, Clash, Noth
 from surerests.facts import clash, greatest_level, least_level
 from surerests.verdicts import Verdict, judge
 from surerests.wirings import Wiring
-from tests.samples import ODD_VALUES, all_facts, caught, drawn_facts, full_wiring, samples, small_wirings, wired
+from tests.samples import ODD_VALUES, all_facts, caught, drawn_facts, drawn_rules, full_wiring, samples, small_wirings
+from tests.samples import wired
 from tests.test_clashes import NO_FACTS
 
 
@@ -289,6 +290,22 @@ class TestUndo(BookCase):
 
 
 class TestWiringsOfSixParts(BookCase):
+    def test_all_facts_by_some_rules(self):
+        for wiring in (full_wiring("+"), full_wiring("?")):
+            rules = drawn_rules(wiring, 3)
+            book = Book(wiring)
+            for state in wiring.states():
+                for name, level in zip(wiring.parts, rules.next(state)):
+                    book.put_fact(state, name, level)
+            self.assertEqual(len(book), 6 * 64)
+            for state in wiring.states():
+                self.assertIs(state in book, rules.rests(state))
+                for name, level in zip(wiring.parts, rules.next(state)):
+                    self.assertEqual(book.bounds(name, state), (level, level))
+                    if level == 0:
+                        told = caught(Clash, lambda: book.put_fact(state, name, 1)).value
+                        self.assertEqual(told[0][1:], (name, 1))
+
     def test_changes(self):
         for sign in "+-?":
             book = Book(full_wiring(sign))

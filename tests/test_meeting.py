@@ -91,6 +91,14 @@ class TestLeastMeeting(unittest.TestCase):
         # (a) and (b, c) meet both rings and have the room 4, so the shorter one comes first.
         wiring = wired("a:3 b:1 c:1; a + b; b + a; a - c; c - a")
         self.assertEqual(least_meeting(wiring), ("a",))
+        # As before, but the shorter one would come last by its name.
+        wiring = wired("a:1 b:1 c:3; a + c; c + a; b - c; c - b")
+        self.assertEqual([room_of(wiring, ("a", "b")), room_of(wiring, ("c",))], [4, 4])
+        self.assertEqual(least_meeting(wiring), ("c",))
+        # (a, d) and (b, c) alone meet all rings with the least room.
+        wiring = wired("a:1 b:1 c:1 d:1; a + b; b + a; a + c; c + a; b - d; d - b; c - d; d - c")
+        self.assertIs(meets(wiring, ("b", "c")), True)
+        self.assertEqual(least_meeting(wiring), ("a", "d"))
         # Both sets (a) and (b) meet the ring, and b has less room.
         self.assertEqual(least_meeting(wired("a:3 b:2; a + b; b + a")), ("b",))
         # Here three parts have less room than two.
